@@ -1,0 +1,1 @@
+"""Roadshare: what the roads to one market cost, and who pays it."""
