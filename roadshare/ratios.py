@@ -39,8 +39,7 @@ def product_of(one, other):
 
 
 def quotient_of(one, other):
-    if other[0] == 0:
-        raise NoFraction("nothing is divided by 0")
+    # Where the other one is 0, the bottom is 0, and ratio refuses it.
     return ratio(one[0] * other[1], one[1] * other[0])
 
 
