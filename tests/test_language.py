@@ -1,6 +1,7 @@
-"""The package keeps to LANGUAGE.md, as far as a reading of the files can tell.
+"""The package keeps to LANGUAGE.md, as far as a plain reading of the files can tell.
 
-What is not looked at here: what objects keep and hand on (L15, L18, L23, L24 in part), and L19's small print.
+Looked at, in whole or in part: L1 to L8, L10, L12, L14 to L17, L19, L20, L24, L25, L27.
+Not looked at: L9, L11, L13, L18, L21 to L23, L26, L28, and of the others what hangs on what a value is.
 """
 
 import ast
