@@ -1,7 +1,8 @@
 """The package keeps to LANGUAGE.md, as far as a plain reading of the files can tell.
 
-Looked at, in whole or in part: L1 to L8, L10, L12, L14 to L17, L19, L20, L24, L25, L27.
-Not looked at: L9, L11, L13, L18, L21 to L23, L26, L28, and of the others what hangs on what a value is.
+Looked at, in whole or in part: L1 to L8, L10, L12 to L28.
+Not looked at: L9 (but that no name of Python's own that reads or prints is there), L11, and of the others what
+hangs on what a value is.
 """
 
 import ast
@@ -22,6 +23,19 @@ METHODS = set(
     " items join keys ljust lower lstrip partition pop remove replace reverse rfind rjust rpartition rsplit rstrip"
     " setdefault split splitlines startswith strip update upper values zfill bit_length".split()
 )
+# What a name of Python's own may be handed by keyword, and where a row of things may be walked on the spot.
+KEYWORDS = {
+    "sorted": {"key", "reverse"}, "min": {"key", "default"}, "max": {"key", "default"}, "sum": {"start"},
+    "enumerate": {"start"}, "zip": {"strict"},
+}
+KEYS = {"len", "int", "str", "abs", "sum", "min", "max", "tuple"}
+ROWS = {"zip", "enumerate", "reversed", "range"}
+VIEWS = {"items", "keys", "values"}
+WALKERS = {"list", "tuple", "dict", "sorted", "sum", "any", "all", "enumerate", "zip"}
+NO_VALUES = set(
+    "items keys values pop update append clear extend insert remove reverse setdefault sort args encode format".split()
+)
+FREE_VALUES = set("count index title find get join lower upper split strip copy add".split())
 DUNDERS = {"__init__", "__eq__", "__repr__", "__str__", "__len__"}
 FOREIGN = set(dir(str) + dir(int) + dir(list) + dir(dict) + dir(set) + dir(bytes)) - METHODS - DUNDERS - {"add", "discard"}
 BANNED_NAMES = {"register", "mro", "elements", "open", "input", "version_info", "with_traceback", "add_note"}
@@ -55,6 +69,17 @@ def top_names(tree):
         elif isinstance(node, ast.ImportFrom):
             names += [alias.asname or alias.name for alias in node.names]
     return names
+
+
+def methods_of(tree):
+    classes = [node for node in ast.walk(tree) if isinstance(node, ast.ClassDef)]
+    return {within.name for node in classes for within in node.body if isinstance(within, ast.FunctionDef)}
+
+
+def values_of(tree):
+    return {
+        node.attr for node in ast.walk(tree) if isinstance(node, ast.Attribute) and isinstance(node.ctx, ast.Store)
+    }
 
 
 def bound(node):
@@ -177,6 +202,20 @@ def l12_names(tree, source):
 
 
 @rule
+def l13_two_forms(tree, source):
+    asked = [side for node in ast.walk(tree) if isinstance(node, ast.Compare) for side in node.comparators]
+    lambdas = []
+    for node in ast.walk(tree):
+        if isinstance(node, ast.Set) and len(node.elts) >= 3 and node not in asked:
+            yield node.lineno
+        if isinstance(node, ast.Lambda):
+            alike = (node.lineno, ast.dump(node.args))
+            if alike in lambdas:
+                yield node.lineno
+            lambdas.append(alike)
+
+
+@rule
 def l14_signs(tree, source):
     for place, line in enumerate(source.split("\n"), start=1):
         if not all(" " <= sign <= "~" for sign in line):
@@ -209,6 +248,22 @@ def l17_words(tree, source):
 
 
 @rule
+def l18_classes(tree, source):
+    classes = [node for node in ast.walk(tree) if isinstance(node, ast.ClassDef)]
+    for node in classes:
+        methods = [within.name for within in node.body if isinstance(within, ast.FunctionDef)]
+        if len(methods) != len(set(methods)):
+            yield node.lineno
+    if methods_of(tree) & values_of(tree):
+        yield 1
+    outer = set(top_names(tree))
+    for node in ast.walk(tree):
+        if isinstance(node, ast.Attribute) and isinstance(node.ctx, ast.Store):
+            if not isinstance(node.value, ast.Name) or node.value.id in outer:
+                yield node.lineno
+
+
+@rule
 def l19_errors(tree, source):
     for node in ast.walk(tree):
         if isinstance(node, ast.ExceptHandler) and node.type is not None:
@@ -225,6 +280,60 @@ def l20_is(tree, source):
         if isinstance(node, ast.Compare) and any(isinstance(way, (ast.Is, ast.IsNot)) for way in node.ops):
             sides = [node.left] + node.comparators
             if not any(isinstance(side, ast.Constant) and side.value in (None, True, False) for side in sides):
+                yield node.lineno
+
+
+@rule
+def l21_annotations(tree, source):
+    for node in ast.walk(tree):
+        told = getattr(node, "annotation", None) or getattr(node, "returns", None)
+        if told is not None:
+            yield node.lineno
+
+
+@rule
+def l22_as_they_are_called(tree, source):
+    called = set()
+    for node in ast.walk(tree):
+        if isinstance(node, ast.Call):
+            called.add(node.func)
+            name = node.func.id if isinstance(node.func, ast.Name) else ""
+            method = node.func.attr if isinstance(node.func, ast.Attribute) else ""
+            for keyword in node.keywords:
+                if (name in BUILTINS and keyword.arg not in KEYWORDS.get(name, ())) or method in METHODS:
+                    yield node.lineno
+                if keyword.arg in ("reverse", "strict") and not isinstance(keyword.value, ast.Constant):
+                    yield node.lineno
+                if keyword.arg == "key" and isinstance(keyword.value, ast.Name) and keyword.value.id in KEYS:
+                    called.add(keyword.value)
+            if name == "isinstance":
+                called.update(ast.walk(node.args[1]))
+        if isinstance(node, ast.ClassDef):
+            called.update(node.bases)
+        if isinstance(node, ast.ExceptHandler) and node.type is not None:
+            called.update(ast.walk(node.type))
+    for node in ast.walk(tree):
+        if isinstance(node, ast.Name) and node.id in BUILTINS and node not in called:
+            yield node.lineno
+
+
+@rule
+def l23_walked_at_once(tree, source):
+    walked = set()
+    for node in ast.walk(tree):
+        if isinstance(node, (ast.For, ast.comprehension)):
+            walked.add(node.iter)
+        if isinstance(node, ast.Call) and isinstance(node.func, ast.Name):
+            if node.func.id in WALKERS or (node.func.id in ("min", "max") and len(node.args) == 1):
+                walked.update(node.args if node.func.id == "zip" else node.args[:1])
+        if isinstance(node, ast.Call) and isinstance(node.func, ast.Attribute) and node.func.attr == "join":
+            if isinstance(node.func.value, ast.Constant):
+                walked.update(node.args)
+    for node in ast.walk(tree):
+        if isinstance(node, ast.Call) and node not in walked:
+            row = isinstance(node.func, ast.Name) and node.func.id in ROWS
+            view = isinstance(node.func, ast.Attribute) and node.func.attr in VIEWS
+            if row or view:
                 yield node.lineno
 
 
@@ -247,6 +356,14 @@ def l25_methods(tree, source):
 
 
 @rule
+def l26_own_names(tree, source):
+    if values_of(tree) & (NO_VALUES | (METHODS - FREE_VALUES) | FOREIGN):
+        yield 1
+    if (methods_of(tree) - {"add", "discard"}) & FOREIGN:
+        yield 1
+
+
+@rule
 def l27_numbers_and_texts(tree, source):
     for node in ast.walk(tree):
         if isinstance(node, ast.BinOp) and isinstance(node.op, ast.Pow):
@@ -257,6 +374,18 @@ def l27_numbers_and_texts(tree, source):
             yield node.lineno
         if isinstance(node, ast.Name) and node.id == "chr":
             yield node.lineno
+
+
+@rule
+def l28_underscores(tree, source):
+    for node in ast.walk(tree):
+        if isinstance(node, ast.FunctionDef) and node.name.startswith("__"):
+            # Best: don't write them. The one that is needed gives back nothing.
+            if node.name != "__init__":
+                yield node.lineno
+            for within in ast.walk(node):
+                if isinstance(within, ast.Return) and within.value is not None:
+                    yield within.lineno
 
 
 def faults(source):
@@ -305,6 +434,14 @@ class PackageTest(unittest.TestCase):
             self.assertTrue(free, f"a ring among {sorted(left)}")
             left = {name: drawn for name, drawn in left.items() if name not in free}
 
+    def test_no_name_is_a_method_in_one_class_and_a_value_in_another(self):
+        trees = [ast.parse(source) for source in modules().values()]
+        methods = set().union(*[methods_of(tree) for tree in trees])
+        values = set().union(*[values_of(tree) for tree in trees])
+        self.assertIn("roads", methods)
+        self.assertIn("ways", values)
+        self.assertEqual(methods & values, set())
+
     def test_init_binds_no_name_of_a_file(self):
         names = set(top_names(ast.parse(modules()["__init__"])))
         self.assertEqual(names & set(modules()), set())
@@ -332,12 +469,29 @@ class RulesTest(unittest.TestCase):
             ("l10_size", "x = '" + "a" * 120 + "'"), ("l10_size", "x = 1\n" * 401),
             ("l10_size", "def f():\n" + "    x = 1\n" * 40),
             ("l12_names", "_ = 1"), ("l12_names", "def _f():\n    pass"), ("l12_names", "x = y._z"),
+            ("l13_two_forms", "x = y == {1, 2, 3} | z"), ("l13_two_forms", "x = [lambda a: 1, lambda a: 2]"),
             ("l14_signs", "# \u00e9"), ("l14_signs", "if x:\n\ty = 1"),
             ("l15_each_name_once", "x = 1\nx = 2"), ("l15_each_name_once", "class A:\n    pass\ndef f(A):\n    pass"),
             ("l15_each_name_once", "from roadshare.a import b\ndef f():\n    b = 1"),
             ("l17_words", "# its type"), ("l17_words", "x = my_dataclasses"), ("l17_words", "x.register()"),
+            ("l18_classes", "class A:\n    def f(self):\n        pass\n    def f(self):\n        pass"),
+            ("l18_classes", "class A:\n    def f(self):\n        self.f = 1"),
+            ("l18_classes", "class A:\n    pass\ndef f():\n    A.x = 1"), ("l18_classes", "def f(x):\n    x.y.z = 1"),
             ("l19_errors", "try:\n    f()\nexcept Exception:\n    pass"), ("l19_errors", "def f():\n    raise e"),
-            ("l20_is", "x = y is z"), ("l24_sets", "x = set(y)"), ("l24_sets", "x = {1, 2}"),
+            ("l20_is", "x = y is z"),
+            ("l21_annotations", "def f(x: int):\n    pass"), ("l21_annotations", "def f() -> int:\n    pass"),
+            ("l21_annotations", "x: int = 1"),
+            ("l22_as_they_are_called", "x = len"), ("l22_as_they_are_called", "x = sorted(y, key=repr)"),
+            ("l22_as_they_are_called", "x = y.split(sep=' ')"), ("l22_as_they_are_called", "x = int(y, base=2)"),
+            ("l22_as_they_are_called", "x = sorted(y, reverse=z)"),
+            ("l23_walked_at_once", "x = range(3)"), ("l23_walked_at_once", "x = y.items()"),
+            ("l23_walked_at_once", "x = f(zip(y, z))"), ("l23_walked_at_once", "x = len(y.keys())"),
+            ("l23_walked_at_once", "x = max(range(y), z)"),
+            ("l26_own_names", "x.pop = 1"), ("l26_own_names", "x.isdigit = 1"),
+            ("l26_own_names", "class A:\n    def casefold(self):\n        pass"),
+            ("l28_underscores", "class A:\n    def __len__(self):\n        return 1"),
+            ("l28_underscores", "class A:\n    def __init__(self):\n        return None"),
+            ("l24_sets", "x = set(y)"), ("l24_sets", "x = {1, 2}"),
             ("l25_methods", "x.sort()"), ("l25_methods", "x = y.__class__"), ("l25_methods", "x = y.format(1)"),
             ("l27_numbers_and_texts", "x = 2 ** n"), ("l27_numbers_and_texts", "x = '%d'"),
         ]:
@@ -349,7 +503,10 @@ class RulesTest(unittest.TestCase):
             '"""Words."""\n\nfrom roadshare.errors import NoTree\n\nMOST = 40\n\n\nclass Thing(Other):\n'
             "    def __init__(self, some):\n        self.some = list(some)\n\n    def told(self, k=1):\n"
             "        if k is None or not isinstance(k, int):\n            raise NoTree(f\"no {k}\")\n"
-            "        return sorted([one // 2 for one in self.some if one < MOST], key=lambda one: -one)[k:]\n"
+            "        return sorted([one // 2 for one in self.some if one < MOST], key=lambda one: -one)[k:]\n\n"
+            "    def walked(self, d):\n        for one, other in zip(d.keys(), reversed(self.some)):\n"
+            "            if one in {1, 2, 3} or isinstance(other, (int, str)):\n                self.some = []\n"
+            "        return max([sum(d.values()), len(list(range(3)))], key=abs)\n"
         )
         self.assertEqual(faults(source), [])
 

@@ -1,52 +1,25 @@
 """Fractions (point 4), held against Python's own."""
 
-import math
 import unittest
 from fractions import Fraction
 
-from roadshare import errors
-from roadshare.errors import NoFraction, ShareError
+from helper import BIG, Case, pair
+from roadshare.errors import NoFraction
 from roadshare.ratios import (
     is_less, is_ratio, product_of, quotient_of, ratio, rest_of, sum_of, total_of,
 )
 
-BIG = 10 ** 30 - 1
 OTHER_BIG = 987654321098765432109876543210
 THIRD_BIG = 10 ** 29 + 319
 NUMBERS = [
     0, 1, -1, 2, -2, 3, 4, -6, 9, 12, -35, 360, 1001,
     BIG, -BIG, OTHER_BIG, -OTHER_BIG, THIRD_BIG, -THIRD_BIG, 10 ** 29, -(2 ** 99), 3 ** 62,
 ]
-OTHER_REFUSALS = [
-    errors.NoTree, errors.NoPlace, errors.NoName, errors.NoPrice,
-    errors.NoSharing, errors.TooMany, errors.NoDeed, errors.NoText,
-]
-
-
-def pair(fraction):
-    return (fraction.numerator, fraction.denominator)
 
 
 def some_fractions():
     made = [Fraction(top, bottom) for top in NUMBERS for bottom in NUMBERS if bottom != 0]
     return sorted(set(made))[::4] + [Fraction(0), Fraction(1), Fraction(-1), Fraction(1, BIG), Fraction(-BIG, THIRD_BIG)]
-
-
-class Case(unittest.TestCase):
-    def hold_fraction(self, told, wanted):
-        self.assertEqual(told, wanted)
-        self.assertIs(type(told), tuple)
-        self.assertEqual([type(number) for number in told], [int, int])
-        self.assertGreaterEqual(told[1], 1)
-        self.assertEqual(math.gcd(told[0], told[1]), 1)
-
-    def hold_refused(self, function, *handed):
-        for taker in (NoFraction, ShareError, ValueError):
-            with self.assertRaises(taker) as caught:
-                function(*handed)
-            self.assertIs(type(caught.exception), NoFraction)
-            for other in OTHER_REFUSALS:
-                self.assertNotIsInstance(caught.exception, other)
 
 
 class RatioTest(Case):
@@ -83,14 +56,14 @@ class RatioTest(Case):
     def test_the_bottom_0_is_refused(self):
         for top in NUMBERS + [10 ** 5000]:
             with self.subTest(bits=top.bit_length()):
-                self.hold_refused(ratio, top, 0)
+                self.hold_refused(NoFraction, ratio, top, 0)
 
     def test_what_is_no_two_whole_numbers_is_refused(self):
         for handed in [
             (True, 2), (1, True), (1, False), (False,), (None,), (1, None), ("1",), (1, "2"), ([], 1), ((1, 2), 3), (0.5,),
         ]:
             with self.subTest(handed=handed):
-                self.hold_refused(ratio, *handed)
+                self.hold_refused(NoFraction, ratio, *handed)
 
 
 class ReckoningTest(Case):
@@ -144,7 +117,7 @@ class ReckoningTest(Case):
     def test_a_quotient_by_0_is_refused(self):
         for fraction in some_fractions():
             with self.subTest(fraction=fraction):
-                self.hold_refused(quotient_of, pair(fraction), (0, 1))
+                self.hold_refused(NoFraction, quotient_of, pair(fraction), (0, 1))
 
     def test_the_arguments_have_their_names(self):
         self.hold_fraction(sum_of(one=(1, 2), other=(1, 4)), (3, 4))
