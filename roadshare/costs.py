@@ -10,6 +10,10 @@ def needed(tree, homes, group):
     return sorted(set(roads))
 
 
+def far_roads_first(tree, homes):
+    return sorted(needed(tree, homes, list(homes)), key=lambda road: len(tree.way(road)), reverse=True)
+
+
 def cost(tree, homes, group):
     return total_of([tree.price(k) for k in needed(tree, homes, group)])
 

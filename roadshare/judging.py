@@ -1,6 +1,6 @@
 """Sharings judged: a table shows that one is good, or a group shows that it is not."""
 
-from roadshare.costs import cost_of_all, needed, users
+from roadshare.costs import cost_of_all, far_roads_first, users
 from roadshare.errors import NoSharing
 from roadshare.ratios import is_less, ratio, rest_of, total_of
 
@@ -20,6 +20,8 @@ def judged(tree, homes, sharing):
             return ("refused", others(homes, [name]))
     left = dict(sharing)
     table = []
+    # All users of a road go on by the same roads. So where all roads beyond it are paid already,
+    # it is the same for the roads to come which of its users pay it.
     for road in far_roads_first(tree, homes):
         payers = users(tree, homes, road)
         # Its users can't pay the road and those beyond it, which nobody else needs: so the others pay
@@ -34,12 +36,6 @@ def judged(tree, homes, sharing):
 
 def others(homes, names):
     return sorted([name for name in homes if name not in names])
-
-
-def far_roads_first(tree, homes):
-    # All users of a road go on by the same roads. So where all roads beyond it are paid already,
-    # it is the same for the roads to come which of its users pay it.
-    return sorted(needed(tree, homes, list(homes)), key=lambda road: len(tree.way(road)), reverse=True)
 
 
 def payments(price, payers, left):

@@ -1,7 +1,7 @@
 """Exact fractions: tuples (top, bottom) in lowest terms, the bottom from 1 on."""
 
 from roadshare.errors import NoFraction
-from roadshare.wholes import greatest_divisor, is_whole
+from roadshare.wholes import greatest_divisor, is_whole, least_multiple
 
 
 def is_ratio(thing):
@@ -49,7 +49,17 @@ def is_less(one, other):
 
 
 def total_of(some):
-    total = (0, 1)
+    # Over one bottom first: so lowest terms, slow to find for many figures, are sought once, not at each step.
+    bottom = common_bottom(some)
+    return ratio(sum([top_over(one, bottom) for one in some]), bottom)
+
+
+def common_bottom(some):
+    bottom = 1
     for one in some:
-        total = sum_of(total, one)
-    return total
+        bottom = least_multiple(bottom, one[1])
+    return bottom
+
+
+def top_over(one, bottom):
+    return one[0] * (bottom // one[1])

@@ -15,3 +15,7 @@ def greatest_divisor(one, other):
         larger = smaller
         smaller = rest
     return larger
+
+
+def least_multiple(one, other):
+    return one // greatest_divisor(one, other) * other

@@ -1,12 +1,16 @@
 """What several tests need: drawn trees, homes and groups, the roads reckoned over plainly, and ways to hold answers."""
 
+import contextlib
+import copy
 import itertools
 import math
+import time
 import unittest
 from fractions import Fraction
 
 from roadshare import errors
 from roadshare.errors import ShareError
+from roadshare.trees import Tree
 
 BIG = 10 ** 30 - 1
 NAMES = ["a", "ab", "abcdefgh", "b", "c", "dale", "e", "hill", "mill", "x", "y", "z"]
@@ -79,6 +83,47 @@ def cut(roads, k, price):
     return made
 
 
+def come_by_come(rng, roads, homes):
+    """What each village adds in a drawn order of coming: good, and full of groups that pay just what they cost."""
+    order = rng.sample(sorted(homes), len(homes))
+    return {
+        name: pair(plain_cost(roads, homes, order[:place + 1]) - plain_cost(roads, homes, order[:place]))
+        for place, name in enumerate(order)
+    }
+
+
+def paid_by(sharing, group):
+    return sum((plain(sharing[name]) for name in group), Fraction(0))
+
+
+def lists_within(told):
+    """All lists and dicts that are told, also within lists, tuples and dicts."""
+    found = [told] if isinstance(told, (list, dict)) else []
+    within = told.values() if isinstance(told, dict) else told if isinstance(told, (list, tuple)) else ()
+    for one in within:
+        found += lists_within(one)
+    return found
+
+
+def spoil(some):
+    for one in lists_within(some):
+        if isinstance(one, dict):
+            one["changed"] = "changed"
+        else:
+            one.append("changed")
+            one.reverse()
+
+
+def copied(handed):
+    """A deep copy; a tree is made anew of its roads."""
+    return [Tree(one.roads()) if isinstance(one, Tree) else copy.deepcopy(one) for one in handed]
+
+
+def laid_open(handed):
+    """What can be compared of what is handed in: a dict's order too."""
+    return [repr(one.roads() if isinstance(one, Tree) else one) for one in handed]
+
+
 class Case(unittest.TestCase):
     def hold_fraction(self, told, wanted):
         self.assertEqual(told, wanted)
@@ -110,3 +155,25 @@ class Case(unittest.TestCase):
         first.reverse()
         self.assertEqual(second, kept)
         self.assertEqual(function(*handed), kept)
+
+    def hold_own(self, function, *handed):
+        """Of all that is told every list and dict is new, and nothing that is handed in is changed or kept."""
+        wanted = copy.deepcopy(function(*copied(handed)))
+        lent = copied(handed)
+        first = function(*lent)
+        second = function(*lent)
+        self.assertEqual(laid_open(lent), laid_open(handed))
+        parts = lists_within([first, second])[1:]
+        self.assertEqual(len({id(part) for part in parts}), len(parts))
+        spoil(first)
+        self.assertEqual(second, wanted)
+        self.assertEqual(laid_open(lent), laid_open(handed))
+        self.assertEqual(function(*lent), wanted)
+        spoil(lent)
+        self.assertEqual(second, wanted)
+
+    @contextlib.contextmanager
+    def hold_good_time(self, seconds=30):
+        start = time.monotonic()
+        yield
+        self.assertLess(time.monotonic() - start, seconds)

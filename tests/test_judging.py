@@ -4,7 +4,9 @@ import random
 import unittest
 from fractions import Fraction
 
-from helper import BIG, Case, all_groups, cut, drawn_homes, drawn_roads, pair, plain, plain_cost, plain_way
+from helper import (
+    BIG, Case, all_groups, come_by_come, cut, drawn_homes, drawn_roads, paid_by, pair, plain, plain_cost, plain_way,
+)
 from roadshare.errors import NoSharing
 from roadshare.evens import even_shares
 from roadshare.judging import judged, look_sharing
@@ -27,7 +29,7 @@ def told_sharing(shares):
 def is_good(roads, homes, sharing):
     """Gone through all groups: none pays more than it costs."""
     for group in all_groups(homes):
-        if sum((plain(sharing[name]) for name in group), Fraction(0)) > plain_cost(roads, homes, group):
+        if paid_by(sharing, group) > plain_cost(roads, homes, group):
             return False
     return True
 
@@ -39,15 +41,6 @@ def moved(rng, sharing, amount):
     made[one] = pair(plain(made[one]) - amount)
     made[other] = pair(plain(made[other]) + amount)
     return made
-
-
-def come_by_come(rng, roads, homes):
-    """What each village adds in a drawn order of coming: good, and full of groups that pay just what they cost."""
-    order = rng.sample(sorted(homes), len(homes))
-    return {
-        name: pair(plain_cost(roads, homes, order[:place + 1]) - plain_cost(roads, homes, order[:place]))
-        for place, name in enumerate(order)
-    }
 
 
 def drawn_shares(rng, roads, homes):
@@ -99,8 +92,7 @@ class JudgingCase(Case):
         self.assertGreater(len(group), 0)
         self.assertEqual(group, sorted(set(group)))
         self.assertLessEqual(set(group), set(homes))
-        paid = sum(plain(sharing[name]) for name in group)
-        self.assertGreater(paid, plain_cost(roads, homes, group))
+        self.assertGreater(paid_by(sharing, group), plain_cost(roads, homes, group))
 
     def hold_judged(self, roads, homes, sharing):
         """The answer holds what it tells; back comes which one it is."""

@@ -6,7 +6,7 @@ from fractions import Fraction
 from helper import BIG, Case, pair
 from roadshare.errors import NoFraction
 from roadshare.ratios import (
-    is_less, is_ratio, product_of, quotient_of, ratio, rest_of, sum_of, total_of,
+    common_bottom, is_less, is_ratio, product_of, quotient_of, ratio, rest_of, sum_of, top_over, total_of,
 )
 
 OTHER_BIG = 987654321098765432109876543210
@@ -168,6 +168,15 @@ class TotalOfTest(Case):
         self.hold_fraction(total_of(some), told)
         some.append((5, 1))
         self.hold_fraction(total_of(some), sum_of(told, (5, 1)))
+
+
+class OneBottomTest(Case):
+    def test_the_least_bottom_that_all_can_be_written_over(self):
+        for some, wanted in [([], 1), ([(3, 1)], 1), ([(1, 4), (-1, 6), (0, 1)], 12), ([(1, 2), (1, BIG)], 2 * BIG)]:
+            with self.subTest(some=some):
+                self.assertEqual(common_bottom(some), wanted)
+                tops = [top_over(one, wanted) for one in some]
+                self.assertEqual([ratio(top, wanted) for top in tops], some)
 
 
 class IsRatioTest(Case):

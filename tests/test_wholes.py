@@ -1,9 +1,9 @@
-"""Whole numbers (point 2), and the greatest divisor that fractions need."""
+"""Whole numbers (point 2), and the divisors and multiples that fractions need."""
 
 import math
 import unittest
 
-from roadshare.wholes import greatest_divisor, is_whole
+from roadshare.wholes import greatest_divisor, is_whole, least_multiple
 
 WHOLES = [0, 1, -1, 2, -7, 10 ** 30 - 1, -(10 ** 30), 10 ** 5000, -(10 ** 5000)]
 OTHERS = [
@@ -36,6 +36,15 @@ class GreatestDivisorTest(unittest.TestCase):
             for other in some:
                 with self.subTest(one=one, other=other):
                     self.assertEqual(greatest_divisor(one, other), math.gcd(one, other))
+
+
+class LeastMultipleTest(unittest.TestCase):
+    def test_it_is_the_least(self):
+        some = [1, 2, 6, 9, 12, 35, 10 ** 30, 6 ** 40, 2 ** 100 - 1]
+        for one in some:
+            for other in some:
+                with self.subTest(one=one, other=other):
+                    self.assertEqual(least_multiple(one, other), math.lcm(one, other))
 
 
 if __name__ == "__main__":
