@@ -1,21 +1,17 @@
 """The evenest sharing, stair by stair: ahead of the others go the villages that pay least by head."""
 
-from roadshare.costs import far_roads_first, needed
-from roadshare.ratios import common_bottom, ratio, top_over
+from roadshare.costs import bottom_of_prices, far_roads_first, needed, whole_cost, whole_prices
+from roadshare.ratios import ratio
 
 
 def stairs(tree, homes):
-    # Reckoned in whole numbers: lowest terms of many figures are slow to find, and only the shares need them.
-    roads = needed(tree, homes, list(homes))
-    bottom = common_bottom([tree.price(k) for k in roads])
-    prices = {}
-    for k in roads:
-        prices[k] = top_over(tree.price(k), bottom)
+    bottom = bottom_of_prices(tree, homes)
+    prices = whole_prices(tree, homes, bottom)
     group = []
     told = []
     while len(group) < len(homes):
         joining = cheapest(tree, homes_without(homes, group), prices)
-        share = ratio(price_of(tree, homes, joining, prices), bottom * len(joining))
+        share = ratio(whole_cost(tree, homes, joining, prices), bottom * len(joining))
         group = sorted(group + joining)
         told.append((group, share))
         for k in needed(tree, homes, joining):
@@ -39,10 +35,6 @@ def homes_without(homes, group):
     return left
 
 
-def price_of(tree, homes, group, prices):
-    return sum([prices[k] for k in needed(tree, homes, group)])
-
-
 def cheapest(tree, homes, prices):
     # Each village brings what the group so far costs by head, and those who can't pay their roads with it drop out.
     # The wanted group costs no more by head, so none of it ever does. Where nobody more does, no group at all has
@@ -51,7 +43,7 @@ def cheapest(tree, homes, prices):
     staying = list(homes)
     while staying != group:
         group = staying
-        staying = who_can_pay(tree, homes, prices, price_of(tree, homes, group, prices), len(group))
+        staying = who_can_pay(tree, homes, prices, whole_cost(tree, homes, group, prices), len(group))
     return group
 
 

@@ -18,6 +18,19 @@ REFUSALS = [
     errors.NoFraction, errors.NoTree, errors.NoPlace, errors.NoName, errors.NoPrice,
     errors.NoSharing, errors.TooMany, errors.NoDeed, errors.NoText,
 ]
+# Texts that are no names of villages.
+NO_NAMES = [
+    "", "abcdefghi", "a" * 3000, "A", "oaK", "a b", " a", "a ", "a1", "0", "a-b", "a_b", "a:b", "a,b", "a.", "a\n",
+    "\n", "`", "{", "\u00e4", "\u00df", "\uff41", "\u0430",
+]
+# Things that are no texts.
+NO_TEXTS = [None, True, False, 0, 1, -1, [], ["0"], (), ("0",), (1, 2), {}, b"0", 1.5]
+# Things that are no prices.
+NO_PRICES = [
+    None, True, False, 0, 1, -1, 10 ** 5000, "", "1", "1/2", [], (), [1, 2], [(1, 1)], (1,), (1, 2, 3), ((1, 1),),
+    ((1, 1), 1), (1, None), (None, 1), (True, 1), (1, True), (False, 1), ("1", 1), (1, "1"), ([1], 1), (1, [1]),
+    (2, 4), (0, 2), (1, 0), (0, 0), (1, -2), (0, -1), (-1, 1), (-1, 2), (-BIG, 1), (-1, BIG), (3 * BIG, BIG),
+]
 # Crossings that a tree of at most 40 roads has not.
 NOWHERE = [-1, -2, -41, 41, 1000, 10 ** 30, -(10 ** 30), 10 ** 5000]
 
@@ -96,6 +109,19 @@ def paid_by(sharing, group):
     return sum((plain(sharing[name]) for name in group), Fraction(0))
 
 
+def rank(rows):
+    """How many of some rows of fractions are not made of the others."""
+    found = 0
+    rows = list(rows)
+    while rows:
+        row = rows.pop()
+        lead = next((k for k, one in enumerate(row) if one != 0), None)
+        if lead is not None:
+            found += 1
+            rows = [[one - other[lead] / row[lead] * own for one, own in zip(other, row)] for other in rows]
+    return found
+
+
 def lists_within(told):
     """All lists and dicts that are told, also within lists, tuples and dicts."""
     found = [told] if isinstance(told, (list, dict)) else []
@@ -122,6 +148,54 @@ def copied(handed):
 def laid_open(handed):
     """What can be compared of what is handed in: a dict's order too."""
     return [repr(one.roads() if isinstance(one, Tree) else one) for one in handed]
+
+
+class Model:
+    """What deeds do to roads and homes, done plainly."""
+
+    def __init__(self, roads):
+        self.roads = list(roads)
+        self.homes = {}
+        self.past = []
+
+    def do(self, deed, *handed):
+        if deed == "back":
+            self.roads, self.homes = self.past.pop()
+            return None
+        self.past.append((list(self.roads), dict(self.homes)))
+        if deed in ("come", "move"):
+            self.homes[handed[0]] = handed[1]
+        if deed == "go":
+            self.homes = {name: k for name, k in self.homes.items() if name != handed[0]}
+        if deed == "reprice":
+            self.roads[handed[0] - 1] = (self.roads[handed[0] - 1][0], handed[1])
+        if deed == "cut":
+            self.roads = cut(self.roads, handed[0], plain(handed[1]))
+        if deed == "build":
+            self.roads = self.roads + [tuple(handed)]
+        return len(self.roads) if deed in ("cut", "build") else None
+
+
+def drawn_deed(rng, model):
+    """A deed that is due, or back, with what is handed in; none where the drawn one can not be done."""
+    deed = rng.choice(["come", "come", "come", "go", "move", "reprice", "cut", "build", "back"])
+    crossing = rng.randrange(len(model.roads) + 1)
+    strange = [name for name in NAMES if name not in model.homes]
+    if deed == "come" and strange:
+        return (deed, rng.choice(strange), crossing)
+    if deed in ("go", "move") and model.homes:
+        name = rng.choice(sorted(model.homes))
+        return (deed, name) if deed == "go" else (deed, name, crossing)
+    if deed == "reprice" and crossing > 0:
+        return (deed, crossing, drawn_price(rng))
+    if deed == "cut" and crossing > 0 and len(model.roads) < 40:
+        part = rng.choice([Fraction(0), Fraction(1), Fraction(rng.randrange(30), 30)])
+        return (deed, crossing, pair(plain(model.roads[crossing - 1][1]) * part))
+    if deed == "build" and len(model.roads) < 40:
+        return (deed, crossing, drawn_price(rng))
+    if deed == "back" and model.past:
+        return (deed,)
+    return None
 
 
 class Case(unittest.TestCase):

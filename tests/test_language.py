@@ -237,6 +237,32 @@ def l15_each_name_once(tree, source):
 
 
 @rule
+def l15_nothing_kept_there(tree, source):
+    kept = {}
+    for node in tree.body:
+        if isinstance(node, ast.Assign) and isinstance(node.value, (ast.List, ast.Dict)):
+            kept.update({target.id: node.value for target in node.targets if isinstance(target, ast.Name)})
+    for value in kept.values():
+        if any(isinstance(within, (ast.List, ast.Dict)) for within in ast.walk(value) if within is not value):
+            yield value.lineno
+    read = set()
+    for node in ast.walk(tree):
+        if isinstance(node, ast.Subscript) and isinstance(node.ctx, ast.Load):
+            read.add(node.value)
+        if isinstance(node, ast.Compare):
+            read.update(node.comparators)
+        if isinstance(node, (ast.For, ast.comprehension)):
+            read.add(node.iter)
+        if isinstance(node, ast.Call) and isinstance(node.func, ast.Name) and node.func.id in WALKERS | {"len"}:
+            read.update(node.args)
+        if isinstance(node, ast.Attribute) and node.attr in VIEWS | {"get", "index", "count", "copy"}:
+            read.add(node.value)
+    for node in ast.walk(tree):
+        if isinstance(node, ast.Name) and isinstance(node.ctx, ast.Load) and node.id in kept and node not in read:
+            yield node.lineno
+
+
+@rule
 def l17_words(tree, source):
     for place, line in enumerate(source.split("\n"), start=1):
         if BANNED_WORDS.search(line):
@@ -473,6 +499,11 @@ class RulesTest(unittest.TestCase):
             ("l14_signs", "# \u00e9"), ("l14_signs", "if x:\n\ty = 1"),
             ("l15_each_name_once", "x = 1\nx = 2"), ("l15_each_name_once", "class A:\n    pass\ndef f(A):\n    pass"),
             ("l15_each_name_once", "from roadshare.a import b\ndef f():\n    b = 1"),
+            ("l15_nothing_kept_there", "x = [[1], 2]"), ("l15_nothing_kept_there", "x = {1: {}}"),
+            ("l15_nothing_kept_there", "x = []\ndef f():\n    x.append(1)"),
+            ("l15_nothing_kept_there", "x = {}\ndef f():\n    x[1] = 2"),
+            ("l15_nothing_kept_there", "x = {}\ndef f():\n    return x"),
+            ("l15_nothing_kept_there", "x = {}\ndef f():\n    g(x)"),
             ("l17_words", "# its type"), ("l17_words", "x = my_dataclasses"), ("l17_words", "x.register()"),
             ("l18_classes", "class A:\n    def f(self):\n        pass\n    def f(self):\n        pass"),
             ("l18_classes", "class A:\n    def f(self):\n        self.f = 1"),
@@ -500,7 +531,9 @@ class RulesTest(unittest.TestCase):
 
     def test_what_keeps_to_the_rules_is_left_alone(self):
         source = (
-            '"""Words."""\n\nfrom roadshare.errors import NoTree\n\nMOST = 40\n\n\nclass Thing(Other):\n'
+            '"""Words."""\n\nfrom roadshare.errors import NoTree\n\nMOST = 40\nSOME = {1: (1, 2)}\n\n\n'
+            "def told(one):\n    return [SOME[one], SOME.get(one), one in SOME, len(SOME), dict(SOME)]\n\n\n"
+            'class Thing(Other):\n'
             "    def __init__(self, some):\n        self.some = list(some)\n\n    def told(self, k=1):\n"
             "        if k is None or not isinstance(k, int):\n            raise NoTree(f\"no {k}\")\n"
             "        return sorted([one // 2 for one in self.some if one < MOST], key=lambda one: -one)[k:]\n\n"
